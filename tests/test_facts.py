@@ -1,12 +1,12 @@
 """Facts, their order and the barred days ([3], [4], [5]), and that nothing is changed or kept ([1])."""
 
-import copy
 import inspect
 import itertools
 import unittest
 
 from longhold import facts
 from longhold.facts import barred, in_order, is_fact, of_field, walks
+from kept import NothingKept
 
 INTERFACE = {
     "is_fact": ["thing"],
@@ -300,7 +300,7 @@ class Barred(unittest.TestCase):
         self.assertEqual(barred([], 0), [])
 
 
-class NothingKept(unittest.TestCase):
+class Kept(NothingKept, unittest.TestCase):
     CALLS = [
         (in_order, [[]]),
         (in_order, [RISING]),
@@ -311,31 +311,6 @@ class NothingKept(unittest.TestCase):
         (walks, [Walks.MIXED, 1, 2]),
         (barred, [Barred.MIXED, 1]),
     ]
-
-    def test_what_was_handed_in_is_as_it_was(self):
-        for one, arguments in self.CALLS:
-            handed = copy.deepcopy(arguments)
-            one(*handed)
-            self.assertEqual(handed, arguments, one.__name__)
-
-    def test_a_change_of_a_told_list_changes_nothing_else(self):
-        for one, arguments in self.CALLS:
-            handed = copy.deepcopy(arguments)
-            told = one(*handed)
-            first_answer = list(told)
-            told.append(None)
-            told.reverse()
-            self.assertEqual(handed, arguments, one.__name__)
-            self.assertEqual(one(*handed), first_answer, one.__name__)
-
-    def test_a_later_change_of_what_was_handed_in_changes_no_answer(self):
-        for one, arguments in self.CALLS:
-            handed = copy.deepcopy(arguments)
-            told = one(*handed)
-            kept = copy.deepcopy(told)
-            handed[0].clear()
-            self.assertEqual(told, kept, one.__name__)
-            self.assertEqual(one(*copy.deepcopy(arguments)), kept, one.__name__)
 
 
 if __name__ == "__main__":
