@@ -1,5 +1,8 @@
 """Sets of days: rising lists of tuples (first, behind) that neither touch nor overlap."""
 
+# Behind every day that bars and terms lead to.
+ENDLESS = 10 ** 40
+
 
 def is_days(rows):
     """Whether a list of tuples of two numbers is a set of days."""

@@ -36,6 +36,11 @@ def is_fact(thing):
     return all([_fits(number, kind, day) for number, kind in zip(numbers, kinds)])
 
 
+def numbers_of(fact, kind):
+    """The numbers of one kind that stand in a fact."""
+    return [number for number, other in zip(fact[2:], KINDS[fact[1]]) if other == kind]
+
+
 def in_order(facts):
     """The facts in the order in which they stand."""
     return sorted(facts)
@@ -54,6 +59,12 @@ def walks(facts, over, to):
 def barred(facts, one):
     """The set of the days on which nothing runs against one."""
     return tidy([(fact[0], fact[3]) for fact in facts if fact[1:3] == ("bar", one)])
+
+
+def all_bars(facts):
+    """A dict from folk to their barred days, for those who have some."""
+    folk = sorted({fact[2] for fact in facts if fact[1] == "bar"})
+    return {one: barred(facts, one) for one in folk}
 
 
 def line(fact):

@@ -1,12 +1,13 @@
 """Sets of days ([2]), and that nothing handed in is changed or kept ([1])."""
 
-import inspect
 import itertools
 import unittest
 
 from longhold import days
 from longhold.days import clipped, common, counted, holds, is_days, joined, length, reach, tidy, without
+from interface import Defs
 from kept import NothingKept
+from slow import gathered, spread
 from soon import SoonCase
 
 FAR = 10 ** 30 - 1
@@ -26,36 +27,17 @@ INTERFACE = {
 }
 
 
-def listed(members):
-    """The one list of a small set of days, gone along day by day."""
-    rows = []
-    for day in sorted(members):
-        if rows and rows[-1][1] == day:
-            rows[-1] = (rows[-1][0], day + 1)
-        else:
-            rows.append((day, day + 1))
-    return rows
-
-
-def members_of(rows):
-    return {day for first, behind in rows for day in range(first, behind)}
-
-
 def subsets(universe):
     for many in range(len(universe) + 1):
         yield from (set(some) for some in itertools.combinations(universe, many))
 
 
-SMALL = [(some, listed(some)) for some in subsets(range(-3, 4))]
+SMALL = [(some, gathered(some)) for some in subsets(range(-3, 4))]
 
 
-class Interface(unittest.TestCase):
-    def test_names_and_arguments(self):
-        for name, arguments in INTERFACE.items():
-            with self.subTest(name):
-                one = getattr(days, name)
-                self.assertEqual(list(inspect.signature(one).parameters), arguments)
-                self.assertEqual(one.__module__, "longhold.days")
+class Interface(Defs, unittest.TestCase):
+    MODULE = days
+    DEFS = INTERFACE
 
 
 class IsDays(SoonCase):
@@ -98,7 +80,7 @@ class IsDays(SoonCase):
         for many in range(4):
             for rows in itertools.product(spans, repeat=many):
                 rows = list(rows)
-                self.told(rows, rows == listed(members_of(rows)))
+                self.told(rows, rows == gathered(spread(rows)))
 
     def test_two_hundred_spans(self):
         rows = [(3 * at, 3 * at + 2) for at in range(-100, 100)]
@@ -134,7 +116,7 @@ class Tidy(SoonCase):
         for many in range(4):
             for rows in itertools.product(spans, repeat=many):
                 told = tidy(list(rows))
-                self.assertEqual(told, listed(members_of(rows)), rows)
+                self.assertEqual(told, gathered(spread(rows)), rows)
                 self.assertTrue(all(isinstance(row, tuple) for row in told))
 
     def test_long_spans(self):
@@ -161,7 +143,7 @@ class Asked(SoonCase):
         for members, rows in SMALL:
             for first, behind in itertools.product(range(-5, 6), repeat=2):
                 within = set(range(first, behind))
-                self.assertEqual(clipped(rows, first, behind), listed(members & within), (rows, first, behind))
+                self.assertEqual(clipped(rows, first, behind), gathered(members & within), (rows, first, behind))
                 self.assertEqual(counted(rows, first, behind), len(within - members), (rows, first, behind))
 
     def test_reach_over_small_sets(self):
@@ -293,7 +275,7 @@ class Together(SoonCase):
                 (without(rows, beside), one - other),
             ]:
                 # The one list of [2], and so a set of days.
-                self.assertEqual(told, listed(wanted), (rows, beside))
+                self.assertEqual(told, gathered(wanted), (rows, beside))
 
     def test_long_spans(self):
         self.told(

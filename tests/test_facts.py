@@ -1,11 +1,11 @@
 """Facts, their order and the barred days ([3], [4], [5]), and that nothing is changed or kept ([1])."""
 
-import inspect
 import itertools
 import unittest
 
 from longhold import facts
 from longhold.facts import barred, in_order, is_fact, of_field, walks
+from interface import Defs
 from kept import NothingKept
 
 INTERFACE = {
@@ -51,13 +51,9 @@ def changed(fact, place, part):
     return (*fact[:place], part, *fact[place + 1:])
 
 
-class Interface(unittest.TestCase):
-    def test_names_and_arguments(self):
-        for name, arguments in INTERFACE.items():
-            with self.subTest(name):
-                one = getattr(facts, name)
-                self.assertEqual(list(inspect.signature(one).parameters), arguments)
-                self.assertEqual(one.__module__, "longhold.facts")
+class Interface(Defs, unittest.TestCase):
+    MODULE = facts
+    DEFS = INTERFACE
 
 
 class IsFact(unittest.TestCase):
